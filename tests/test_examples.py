@@ -1,4 +1,7 @@
-"""The examples of the document, as they stand there; each file continues with the names that the ones ahead set."""
+"""The examples of the document, as they stand there, and those of README.md.
+
+The files of the document's examples go on, in their order, with the names that the ones ahead set.
+"""
 
 import ast
 import os
@@ -7,17 +10,21 @@ import unittest
 from tests.support import same
 from unpassed import errors
 
-FOLDER = os.path.join(os.path.dirname(os.path.abspath(__file__)), "examples")
+TESTS = os.path.dirname(os.path.abspath(__file__))
+FOLDER = os.path.join(TESTS, "examples")
+README = os.path.join(os.path.dirname(TESTS), "README.md")
 
 
 def examples_in(text):
     """The pairs of the lines that are run and of the line that tells what comes, None where nothing is told."""
     pairs = []
+    ahead = ""
     for line in text.splitlines():
         if line.startswith("    >>> "):
             pairs.append([line[8:], None])
-        elif line.strip():
+        elif line.strip() and ahead.startswith("    >>> "):
             pairs[-1][1] = line.strip()
+        ahead = line
     return pairs
 
 
@@ -48,15 +55,21 @@ class ExamplesTest(unittest.TestCase):
             value = run_line(line, names)
             self.assertTrue(same(value, ast.literal_eval(told)), f"{line}: {value!r}")
 
+    def check_file(self, path, names):
+        with open(path, encoding="utf-8") as file:
+            pairs = examples_in(file.read())
+        self.assertTrue([told for _, told in pairs if told is not None], path)
+        for line, told in pairs:
+            self.check_example(line, told, names)
+
     def test_examples(self):
         names = {}
-        many = 0
+        self.assertEqual(sorted(os.listdir(FOLDER))[:3], ["A.txt", "B.txt", "C.txt"])
         for name in sorted(os.listdir(FOLDER)):
-            with open(os.path.join(FOLDER, name), encoding="utf-8") as file:
-                for line, told in examples_in(file.read()):
-                    self.check_example(line, told, names)
-                    many += told is not None
-        self.assertGreaterEqual(many, 13)
+            self.check_file(os.path.join(FOLDER, name), names)
+
+    def test_readme(self):
+        self.check_file(README, {})
 
 
 if __name__ == "__main__":

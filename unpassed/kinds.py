@@ -1,6 +1,6 @@
 """Whether a value is of some kind, asked of any value without an error."""
 
-from unpassed.bounds import MAX_LETTER
+from unpassed.bounds import MAX_BITS, MAX_LETTER
 
 
 def is_whole(value):
@@ -26,3 +26,13 @@ def is_letter(value):
 def is_letter_of(table, value):
     """Whether value is a letter that stands in table."""
     return is_letter(value) and value in table
+
+
+def is_state_of(table, value):
+    """Whether value is a state of table ([A4])."""
+    return is_within(value, len(table), 2 * len(table) - 1)
+
+
+def is_bits(value):
+    """Whether value are bits ([B1])."""
+    return is_tuple(value, 0, MAX_BITS) and all([is_within(bit, 0, 1) for bit in value])

@@ -1,0 +1,42 @@
+"""The interface: each function stands in its own file, and takes its arguments under the names that are told."""
+
+import importlib
+import inspect
+import unittest
+
+INTERFACE = {
+    "tables": {
+        "table_error": "value", "text_error": "table value", "letters_of": "table", "counts_of": "table",
+        "count_of": "table letter", "cell_of": "table letter k", "rank_at": "table cell",
+    },
+    "tabletexts": {
+        "table_text": "table", "read_table": "value", "letters_text": "text", "read_letters": "table value",
+    },
+    "writing": {"write": "table state text", "bit_count": "table state text", "pack": "table text"},
+    "reading": {"read": "table state bits many", "read_back": "table state bits", "unpack": "table value"},
+    "bittexts": {"packet_text": "packet", "read_packet": "value"},
+    "turns": {
+        "turn_error": "many value", "led": "turn height", "plain_turn": "many", "letter_turn": "table letter",
+        "text_turn": "table text", "then": "one other", "image_of": "turn", "table_of": "value",
+    },
+    "turnpowers": {"power": "turn times"},
+}
+
+
+class InterfaceTest(unittest.TestCase):
+    def test_functions(self):
+        for file, functions in INTERFACE.items():
+            module = importlib.import_module("unpassed." + file)
+            for name, words in functions.items():
+                function = getattr(module, name)
+                self.assertTrue(inspect.isfunction(function), name)
+                self.assertEqual(function.__module__, "unpassed." + file, name)
+                parameters = inspect.signature(function).parameters
+                self.assertEqual(list(parameters), words.split(), name)
+                for parameter in parameters.values():
+                    self.assertEqual(parameter.kind, parameter.POSITIONAL_OR_KEYWORD, name)
+                    self.assertEqual(parameter.default, parameter.empty, name)
+
+
+if __name__ == "__main__":
+    unittest.main()
