@@ -3,6 +3,7 @@
 import copy
 import itertools
 import random
+import time
 
 from unpassed.errors import NoLetter, RingError, Unfit
 
@@ -19,6 +20,12 @@ ODD_TUPLES = (
 )
 
 FAR_INTEGERS = (-1, -2, -64, 128, 129, 10 ** 30, -10 ** 30, 10 ** 399, -10 ** 399)
+
+TURNS = (
+    (0,), (5,), (-5,), (10 ** 30,), (0, 1), (0, 2), (3, 3), (-1, 1), (2, 3, 4, 4), (9, 9, 9, 9), (9, 9, 13, 13),
+    (-3, -3, -2, -1), (1, 2, 3), (0, 1, 2), (-4, -4, -4, 0), (-7, -6, -6, -3), (10 ** 20, 10 ** 20, 10 ** 20 + 3),
+    tuple(range(64)), tuple(range(1, 65)), (-1,) * 63 + (63,), (640,) * 64,
+)
 
 
 def kind_of(value):
@@ -77,12 +84,22 @@ def drawn_texts(seed, table, lengths):
     return [tuple(draw.choice(table) for _ in range(length)) for length in lengths]
 
 
+def small_turns(many):
+    """All turns of a ring of many places whose first item is from -2 to many."""
+    return [(first, *rest) for first in range(-2, many + 1)
+            for rest in itertools.combinations_with_replacement(range(first, first + many + 1), many - 1)]
+
+
 def outcome(function, *given, **named):
     """What a call returns, or the RingError that it raises, as one value."""
     try:
         return "returned", function(*given, **named)
     except RingError as error:
         return "raised", type(error).__name__, dict(vars(error))
+
+
+# Far more than any call takes, so that a busy machine does not fail a test.
+GOOD_TIME = 20
 
 
 class Checks:
@@ -114,3 +131,10 @@ class Checks:
             self.check_same(function(**named), wanted, function.__name__)
             self.check_same(function(*named.values()), wanted, function.__name__)
         self.check_same(named, before)
+
+    def check_quick(self, function, *given):
+        """What the call returns, which it does in good time."""
+        begun = time.process_time()
+        value = function(*given)
+        self.assertLess(time.process_time() - begun, GOOD_TIME, function.__name__)
+        return value

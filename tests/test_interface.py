@@ -20,6 +20,16 @@ INTERFACE = {
         "text_turn": "table text", "then": "one other", "image_of": "turn", "table_of": "value",
     },
     "turnpowers": {"power": "turn times"},
+    "costs": {"cost": "table text", "turn_cost": "turn", "cost_holds": "table text value"},
+    "rounds": {
+        "rounds": "table text", "turn_rounds": "turn", "tail": "table text state", "bits_for": "table state text times",
+    },
+    "starts": {
+        "bits_from": "table text", "cut_state": "table text", "parting_text": "table one other", "stretches": "table",
+        "meeting_text": "table one other",
+    },
+    "machines": {"machine_of": "table", "machine_bits": "machine number text"},
+    "lots": {"lots": "table", "left_by": "table text", "rank": "table"},
 }
 
 

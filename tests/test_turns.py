@@ -5,7 +5,8 @@ import unittest
 
 from tests.model import cells_with, height_behind, states_of
 from tests.support import (
-    Checks, FAR_INTEGERS, ODD_TUPLES, ODD_VALUES, drawn_tables, drawn_texts, shaped_tables, small_tables,
+    Checks, FAR_INTEGERS, ODD_TUPLES, ODD_VALUES, TURNS, drawn_tables, drawn_texts, shaped_tables, small_tables,
+    small_turns,
 )
 from unpassed.errors import NoLetter, Unfit
 from unpassed.tables import letters_of
@@ -14,17 +15,6 @@ from unpassed.turns import image_of, led, letter_turn, plain_turn, table_of, tex
 from unpassed.writing import bit_count, write
 
 TABLES = small_tables() + shaped_tables() + drawn_tables(61, 40, (2, 3, 4, 5, 6, 7, 8, 9, 10, 11, 12, 31, 63, 64))
-TURNS = (
-    (0,), (5,), (-5,), (10 ** 30,), (0, 1), (0, 2), (3, 3), (-1, 1), (2, 3, 4, 4), (9, 9, 9, 9), (9, 9, 13, 13),
-    (-3, -3, -2, -1), (1, 2, 3), (0, 1, 2), (-4, -4, -4, 0), (-7, -6, -6, -3), (10 ** 20, 10 ** 20, 10 ** 20 + 3),
-    tuple(range(64)), tuple(range(1, 65)), (-1,) * 63 + (63,), (640,) * 64,
-)
-
-
-def small_turns(many):
-    """All turns of a ring of many places whose first item is from -2 to many."""
-    return [(first, *rest) for first in range(-2, many + 1)
-            for rest in itertools.combinations_with_replacement(range(first, first + many + 1), many - 1)]
 
 
 class TurnErrorTest(unittest.TestCase, Checks):

@@ -1,0 +1,88 @@
+"""Starts: what unlike states cost a text, which states are alike, and which ones meet."""
+
+from unpassed.checks import check_state
+from unpassed.searches import shortest_text
+from unpassed.steps import letter_turns, states_of, step_by
+from unpassed.turns import text_turn
+
+
+def bits_from(table, text):
+    """What each state costs for the text, ascending by states ([E2])."""
+    return tuple([height // len(table) for height in text_turn(table, text)])
+
+
+def cut_state(table, text):
+    """The least state that costs more for the text than the first one, None if there is none ([E2])."""
+    bits = bits_from(table, text)
+    for state, own in zip(states_of(table), bits):
+        if own > bits[0]:
+            return state
+    return None
+
+
+def parting_text(table, one, other):
+    """A shortest tuple of letters that parts two states, None if they are alike ([E3])."""
+    check_states(table, one, other)
+    turns = letter_turns(table)
+
+    def step(pair, letter):
+        """The pair to which the letter leads, None if it parts the pair."""
+        bits, state = step_by(turns[letter], pair[0])
+        more, beside = step_by(turns[letter], pair[1])
+        return (state, beside) if bits == more else None
+
+    return shortest_text([(one, other)], list(turns), step, lambda pair: pair is None)
+
+
+def stretches(table):
+    """The tuples of alike states, by their first ones ([E3])."""
+    numbers = stretch_numbers(table)
+    parts = [[] for _ in range(numbers[-1] + 1)]
+    for state, number in zip(states_of(table), numbers):
+        parts[number].append(state)
+    return tuple([tuple(part) for part in parts])
+
+
+def meeting_text(table, one, other):
+    """A shortest tuple of letters that leads two states to one, None if there is none ([E4])."""
+    check_states(table, one, other)
+    turns = letter_turns(table)
+
+    def step(pair, letter):
+        """The pair to which the letter leads, ascending, so that no pair is gone through twice."""
+        reached = [step_by(turns[letter], state)[1] for state in pair]
+        return min(reached), max(reached)
+
+    return shortest_text([(one, other)], list(turns), step, lambda pair: pair[0] == pair[1])
+
+
+def check_states(table, one, other):
+    """Raise NoState with the first one of two values that is no state of table."""
+    check_state(table, one)
+    check_state(table, other)
+
+
+def stretch_numbers(table):
+    """For each state, ascending, the number of its stretch."""
+    turns = letter_turns(table)
+    numbers = (0,) * len(table)
+    finer = finer_numbers(turns, numbers)
+    while finer != numbers:
+        numbers = finer
+        finer = finer_numbers(turns, numbers)
+    return numbers
+
+
+def finer_numbers(turns, numbers):
+    """The numbers of states that texts of one letter more do not part, numbers being those for the texts ahead."""
+    many = len(numbers)
+    rows = []
+    for state in range(many, 2 * many):
+        steps = [step_by(turn, state) for turn in turns.values()]
+        rows.append([(bits, numbers[reached - many]) for bits, reached in steps])
+    # What lies between two states that some texts do not part is not parted from them either ([E7]), so a state has
+    # the number of the one ahead of it, or a new one.
+    finer = [0]
+    for ahead, row in zip(rows, rows[1:]):
+        finer.append(finer[-1] if row == ahead else finer[-1] + 1)
+    return tuple(finer)
