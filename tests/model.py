@@ -1,6 +1,8 @@
 """What the document says, told in another way than the program does it: by writing letters; slow, for tests alone."""
 
 import itertools
+import math
+from fractions import Fraction
 
 
 def cells_with(table, letter):
@@ -141,3 +143,82 @@ def rows_left(table):
                     found[left] = found[states] + 1
                     row.append(left)
     return found
+
+
+def gained(one, other, pair, text):
+    """What the text gains from a pair of states on, and the pair to which it leads."""
+    bits, state = written(one, pair[0], text)
+    more, beside = written(other, pair[1], text)
+    return len(bits) - len(more), (state, beside)
+
+
+def pairs_beside(one, other):
+    return [(state, beside) for state in states_of(one) for beside in states_of(other)]
+
+
+def excess_of(one, other):
+    """The most that any text gains, None if there is no most: texts of one letter more, as often as there are pairs."""
+    steps = {(pair, letter): gained(one, other, pair, (letter,))
+             for pair in pairs_beside(one, other) for letter in sorted(set(one))}
+    most = {pair: 0 for pair in pairs_beside(one, other)}
+    for _ in range(len(most) + 1):
+        further = dict(most)
+        for (pair, _), (gain, reached) in steps.items():
+            further[pair] = max(further[pair], gain + most[reached])
+        if further == most:
+            return max(most.values())
+        most = further
+    return None
+
+
+def is_excess_round(one, other, state, beside, text):
+    """Whether states and a text of the tables make a round that gains."""
+    gain, reached = gained(one, other, (state, beside), text)
+    return reached == (state, beside) and gain > 0
+
+
+def is_excess_paper(one, other, most, rows, way):
+    """Whether this is a paper of the tables; its parts are of the right kinds."""
+    weights = {pair: rows[pair[0] - len(one)][pair[1] - len(other)] for pair in pairs_beside(one, other)}
+    if min(weights.values()) < 0 or max(weights.values()) > most or gained(one, other, way[:2], way[2])[0] != most:
+        return False
+    for pair in weights:
+        for letter in set(one):
+            gain, reached = gained(one, other, pair, (letter,))
+            if weights[reached] < weights[pair] + gain:
+                return False
+    return True
+
+
+def means_of(table, letters):
+    """The least and the greatest mean of a round of at most as many letters as the table has cells."""
+    steps = {state: [written_letter(table, state, letter) for letter in letters] for state in states_of(table)}
+    means = []
+    for start in states_of(table):
+        reached = {start: (0, 0)}
+        for many in range(1, len(table) + 1):
+            further = {}
+            for state, (least, most) in reached.items():
+                for bits, behind in steps[state]:
+                    low, high = further.get(behind, (10 ** 9, -1))
+                    further[behind] = min(low, least + len(bits)), max(high, most + len(bits))
+            reached = further
+            if start in reached:
+                means.extend([Fraction(bits, many) for bits in reached[start]])
+    return min(means), max(means)
+
+
+def is_mean_paper(table, letters, word, paper):
+    """Whether this is a paper for word; its parts are of the right kinds, its text is one of letters."""
+    above, below, start, text, weights = paper
+    bits, reached = written(table, start, text)
+    if math.gcd(above, below) != 1 or below < 1 or reached != start or Fraction(len(bits), len(text)) != Fraction(above, below):
+        return False
+    for state in states_of(table):
+        for letter in letters:
+            bits, behind = written_letter(table, state, letter)
+            one = below * len(bits) + weights[behind - len(table)]
+            other = above + weights[state - len(table)]
+            if one < other if word == "least" else one > other:
+                return False
+    return True

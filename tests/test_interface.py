@@ -30,6 +30,14 @@ INTERFACE = {
     },
     "machines": {"machine_of": "table", "machine_bits": "machine number text"},
     "lots": {"lots": "table", "left_by": "table text", "rank": "table"},
+    "combs": {"comb": "table", "is_comb": "table value", "reset_text": "table"},
+    "moves": {"moves": "table text", "combed": "table text letters"},
+    "joint": {"excess": "one other", "round_holds": "one other value", "unlike_text": "one other"},
+    "weights": {"excess_paper": "one other", "excess_holds": "one other value"},
+    "means": {
+        "cheapest": "table letters", "dearest": "table letters", "mean_paper": "table letters word",
+        "mean_holds": "table letters word value",
+    },
 }
 
 

@@ -287,6 +287,12 @@ class ExpressionsTest(unittest.TestCase):
         for name, node in nodes(ast.GeneratorExp):
             self.fail(f"{name}: line {node.lineno}: take a list, as classes with == ask for")
 
+    def test_lambdas_stand_on_lines_of_their_own(self):
+        lines = [(name, node.lineno) for name, node in nodes(ast.Lambda)]
+        self.assertEqual(len(lines), len(set(lines)))
+        for name, node in nodes(ast.Lambda):
+            self.assertEqual(node.args.defaults, [], (name, node.lineno))
+
     def test_keywords_of_builtins(self):
         let = {"sorted": {"key", "reverse"}, "min": {"key", "default"}, "max": {"key", "default"}, "sum": {"start"},
                "enumerate": {"start"}, "zip": {"strict"}}

@@ -2,8 +2,15 @@
 
 from math import gcd
 
+from unpassed.kinds import is_whole
+
 
 def least_terms(above, below):
     """The fraction ([A3]) that is above by below; below is at least 1."""
     common = gcd(above, below)
     return above // common, below // common
+
+
+def is_fraction(above, below):
+    """Whether two values are integers that make a fraction ([A3])."""
+    return is_whole(above) and is_whole(below) and below >= 1 and gcd(above, below) == 1

@@ -46,6 +46,17 @@ def stretches(table):
 def meeting_text(table, one, other):
     """A shortest tuple of letters that leads two states to one, None if there is none ([E4])."""
     check_states(table, one, other)
+    return shortest_meeting(table, [(one, other)])
+
+
+def check_states(table, one, other):
+    """Raise NoState with the first one of two values that is no state of table."""
+    check_state(table, one)
+    check_state(table, other)
+
+
+def shortest_meeting(table, pairs):
+    """A shortest tuple of letters that leads both states of one of the pairs to one state, None if there is none."""
     turns = letter_turns(table)
 
     def step(pair, letter):
@@ -53,13 +64,7 @@ def meeting_text(table, one, other):
         reached = [step_by(turns[letter], state)[1] for state in pair]
         return min(reached), max(reached)
 
-    return shortest_text([(one, other)], list(turns), step, lambda pair: pair[0] == pair[1])
-
-
-def check_states(table, one, other):
-    """Raise NoState with the first one of two values that is no state of table."""
-    check_state(table, one)
-    check_state(table, other)
+    return shortest_text(pairs, list(turns), step, lambda pair: pair[0] == pair[1])
 
 
 def stretch_numbers(table):
