@@ -222,3 +222,63 @@ def is_mean_paper(table, letters, word, paper):
             if one < other if word == "least" else one > other:
                 return False
     return True
+
+
+def bits_of_all(table, letters, state, many):
+    """How many texts of so many of letters cost how many bits from state on, by the bits: one letter after the other."""
+    ways = {(state, 0): 1}
+    for _ in range(many):
+        further = {}
+        for (start, bits), number in ways.items():
+            for letter in letters:
+                more, reached = written_letter(table, start, letter)
+                key = reached, bits + len(more)
+                further[key] = further.get(key, 0) + number
+        ways = further
+    found = {}
+    for (_, bits), number in ways.items():
+        found[bits] = found.get(bits, 0) + number
+    return found
+
+
+def even_table(counts):
+    """The table in which all cells stand in the order of their places as fractions."""
+    cells = [(Fraction(2 * k + 1, count), letter) for letter, count in counts for k in range(count)]
+    return tuple([letter for _, letter in sorted(cells)])
+
+
+def tables_with(counts):
+    """All tables with these counts, ascending; for few cells alone."""
+    cells = [letter for letter, count in counts for _ in range(count)]
+    return sorted(set(itertools.permutations(cells)))
+
+
+def cost_of(table, text):
+    """What the text costs each time for ever."""
+    states, bits, at = walked(table, text, len(table))
+    return Fraction(sum(bits[at:]), len(states) - at)
+
+
+def line_written(book, state, line):
+    bits = ()
+    for place, letter in line:
+        more, state = written_letter(book[place], state, letter)
+        bits += more
+    return bits, state
+
+
+def book_rows(book):
+    """All tuples of states that any right lines leave."""
+    tables = {table for table in book}
+    found = {tuple(states_of(book[0]))}
+    row = list(found)
+    while row:
+        ahead, row = row, []
+        for states in ahead:
+            for table in tables:
+                for letter in set(table):
+                    left = tuple(sorted({written_letter(table, state, letter)[1] for state in states}))
+                    if left not in found:
+                        found.add(left)
+                        row.append(left)
+    return found

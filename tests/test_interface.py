@@ -38,6 +38,20 @@ INTERFACE = {
         "cheapest": "table letters", "dearest": "table letters", "mean_paper": "table letters word",
         "mean_holds": "table letters word value",
     },
+    "sums": {
+        "fewest_bits": "table letters state many", "most_bits": "table letters state many",
+        "cheapest_text": "table letters state many", "count_within": "table letters state many bits",
+    },
+    "spreads": {"in_blocks": "counts", "evenly": "counts"},
+    "tablerows": {
+        "table_many": "counts", "table_at": "counts number", "table_number": "table", "best_tables": "counts text",
+        "best_cost": "counts text",
+    },
+    "books": {
+        "book_error": "value", "write_line": "book state line", "read_line": "book state bits places",
+        "by_rule": "book rule first text", "read_by": "book rule first state bits many",
+    },
+    "bookturns": {"line_turn": "book line", "line_cost": "book line", "book_rank": "book"},
 }
 
 

@@ -6,13 +6,7 @@ from unpassed.turns import image_of, text_turn
 
 def lots(table):
     """All lots, by their least states ([F2])."""
-    turns = letter_turns(table)
-    found = []
-    for state in states_of(table):
-        # Lots have no state in common ([F6]), so a state of one that was found tells no new one.
-        if all([state not in lot for lot in found]):
-            found.append(states_behind(turns, state))
-    return tuple(found)
+    return lots_behind(list(letter_turns(table).values()))
 
 
 def left_by(table, text):
@@ -26,8 +20,18 @@ def rank(table):
     return len(lots(table))
 
 
+def lots_behind(turns):
+    """All lots of states that these turns of one ring, one behind another, lead to one another, by their least ones."""
+    found = []
+    for state in states_of(turns[0]):
+        # Lots have no state in common ([F6]), so a state of one that was found tells no new one.
+        if all([state not in lot for lot in found]):
+            found.append(states_behind(turns, state))
+    return tuple(found)
+
+
 def states_behind(turns, state):
-    """All states to which texts lead from state, ascending."""
+    """All states to which the turns lead from state, ascending."""
     known = {state: True}
     row = [state]
     while row:
@@ -36,10 +40,10 @@ def states_behind(turns, state):
 
 
 def new_states(turns, row, known):
-    """The states to which letters lead from those of row, and that are not known yet; known they are then."""
+    """The states to which the turns lead from those of row, and that are not known yet; known they are then."""
     found = []
     for state in row:
-        for turn in turns.values():
+        for turn in turns:
             _, reached = step_by(turn, state)
             if reached not in known:
                 known[reached] = True

@@ -1,7 +1,7 @@
 """Means: the least and the greatest bits by letters of rounds of texts, and papers that show them."""
 
 from unpassed.checks import check_letters
-from unpassed.choices import choice_turn, turns_told
+from unpassed.choices import choice_turn, chosen_letters, turns_told
 from unpassed.costs import turn_cost
 from unpassed.kinds import is_state_of, is_tuple, is_whole
 from unpassed.ratios import is_fraction
@@ -27,9 +27,8 @@ def mean_paper(table, letters, word):
     turn = choice_turn(table, letters, word)
     above, below = turn_cost(turn)
     places = turn_rounds(turn)[0]
-    turns = turns_told(table, letters)
-    # Each place of the round is led on by a letter that leads as the choice does.
-    text = tuple([[letter for letter in letters if turns[letter][place] == turn[place]][0] for place in places])
+    chosen = chosen_letters(table, letters, word)
+    text = tuple([chosen[place] for place in places])
     return above, below, len(table) + places[0], text, mean_weights(table, letters, word, above, below)
 
 

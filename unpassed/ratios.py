@@ -14,3 +14,8 @@ def least_terms(above, below):
 def is_fraction(above, below):
     """Whether two values are integers that make a fraction ([A3])."""
     return is_whole(above) and is_whole(below) and below >= 1 and gcd(above, below) == 1
+
+
+def is_below(one, other):
+    """Whether a fraction is less than another one."""
+    return one[0] * other[1] < other[0] * one[1]

@@ -46,10 +46,14 @@ def letter_turn(table, letter):
 def text_turn(table, text):
     """The turn of the text ([C3])."""
     check_letters(table, text)
-    turns = {letter: letter_turn(table, letter) for letter in sorted(set(text))}
-    turn = plain_turn(len(table))
-    for letter in text:
-        turn = then(turn, turns[letter])
+    return turn_behind(len(table), {letter: letter_turn(table, letter) for letter in sorted(set(text))}, text)
+
+
+def turn_behind(many, turns, steps):
+    """The turn of a ring of many places that leads as all of steps do, one behind another; turns tells that of each."""
+    turn = plain_turn(many)
+    for step in steps:
+        turn = then(turn, turns[step])
     return turn
 
 
