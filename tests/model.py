@@ -282,3 +282,49 @@ def book_rows(book):
                         found.add(left)
                         row.append(left)
     return found
+
+
+def whole_written(table, state, many):
+    """The shares of all texts of so many letters together."""
+    found = bits_of_all(table, sorted(set(table)), state, many)
+    return sum([Fraction(number, 2 ** bits) for bits, number in found.items()])
+
+
+def read_steps(table, state):
+    """The states to which tossing bits leads by one letter, each with its share: shorter tosses first."""
+    before = letters_before(table)
+    found, rows = {}, [()]
+    while rows:
+        further = []
+        for bits in rows:
+            step = read_letter(before, state, bits)
+            if step is None:
+                # What is tossed later is taken later, so it stands ahead.
+                further.extend([(0,) + bits, (1,) + bits])
+            else:
+                found[step[1]] = found.get(step[1], 0) + Fraction(1, 2 ** len(bits))
+        rows = further
+    return found
+
+
+def tells(one, other, text):
+    """Whether the two tables write the text with unlike numbers of bits, each from its first state."""
+    return len(written(one, len(one), text)[0]) != len(written(other, len(other), text)[0])
+
+
+def least_telling(one, other):
+    """How many letters a text has at least that the tables write with unlike numbers of bits, None if there is none."""
+    row, found, many = {(len(one), len(other))}, set(), 0
+    while row:
+        many += 1
+        further = set()
+        for state, beside in row:
+            for letter in set(one):
+                bits, reached = written_letter(one, state, letter)
+                more, behind = written_letter(other, beside, letter)
+                if len(bits) != len(more):
+                    return many
+                further.add((reached, behind))
+        found |= row
+        row = further - found
+    return None

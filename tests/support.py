@@ -5,12 +5,23 @@ import itertools
 import random
 import time
 
+from unpassed.benches import Bench
 from unpassed.errors import NoLetter, RingError, Unfit
+from unpassed.shells import Shell
+
+
+def bench_of(**tables):
+    """A bench that keeps these tables, in this order."""
+    bench = Bench()
+    for name, table in tables.items():
+        bench.keep(name, table)
+    return bench
+
 
 # Any value may be handed in for some arguments ([A3]); none of these is an integer or a tuple.
 ODD_VALUES = (
     None, True, False, "", "0", "5", "None", "a b", "\n", [], [0], [5], [0, 1], [[]], {}, {0: 1}, {"a": [0]},
-    Unfit(), NoLetter(0), [None, (1,), {"b": (True,)}], "z" * 20000,
+    Unfit(), NoLetter(0), [None, (1,), {"b": (True,)}], "z" * 20000, Bench(), bench_of(a=(0, 1)), Shell(),
 )
 
 # Tuples that hold what is no letter.
@@ -34,7 +45,7 @@ def kind_of(value):
         return type(value).__name__, [kind_of(item) for item in value]
     if isinstance(value, dict):
         return "dict", [(kind_of(key), kind_of(item)) for key, item in value.items()]
-    if isinstance(value, RingError):
+    if hasattr(value, "__dict__"):
         return type(value).__name__, kind_of(vars(value))
     return type(value).__name__, value
 

@@ -64,7 +64,7 @@ class ExamplesTest(unittest.TestCase):
 
     def test_examples(self):
         names = {}
-        self.assertEqual(sorted(os.listdir(FOLDER)), [part + ".txt" for part in "ABCDEFGHIJ"])
+        self.assertEqual(sorted(os.listdir(FOLDER)), [part + ".txt" for part in "ABCDEFGHIJKLM"])
         for name in sorted(os.listdir(FOLDER)):
             self.check_file(os.path.join(FOLDER, name), names)
 

@@ -52,7 +52,26 @@ INTERFACE = {
         "by_rule": "book rule first text", "read_by": "book rule first state bits many",
     },
     "bookturns": {"line_turn": "book line", "line_cost": "book line", "book_rank": "book"},
+    "shares": {"reader_step": "table", "state_shares": "table", "shares": "table", "whole_of": "table state many"},
+    "lengths": {
+        "seen_error": "letters value", "fitting": "many letters seen", "sure_cells": "many letters seen",
+        "bits_told": "many letters seen text", "telling_text": "one other",
+    },
+    "logs": {"log_text": "edits", "read_log": "value", "bench_behind": "edits"},
 }
+
+CLASSES = {
+    "benches": {
+        "Bench": {
+            "keep": "name table", "drop": "name", "exchange": "name one other", "put": "name cell letter",
+            "take": "name cell", "batch": "edits", "bits": "name text", "turn": "name text", "cost": "name text",
+            "undo": "", "redo": "", "at": "version", "copy": "", "attempt": "work",
+        },
+    },
+    "shells": {"Shell": {"say": "line"}},
+}
+SIGNS = ("__len__", "__contains__", "__getitem__", "__iter__", "__eq__")
+READ = ("shelf", "version", "log", "made")
 
 
 class InterfaceTest(unittest.TestCase):
@@ -68,6 +87,34 @@ class InterfaceTest(unittest.TestCase):
                 for parameter in parameters.values():
                     self.assertEqual(parameter.kind, parameter.POSITIONAL_OR_KEYWORD, name)
                     self.assertEqual(parameter.default, parameter.empty, name)
+
+    def test_classes(self):
+        for file, classes in CLASSES.items():
+            module = importlib.import_module("unpassed." + file)
+            for name, methods in classes.items():
+                kind = getattr(module, name)
+                self.assertTrue(inspect.isclass(kind), name)
+                self.assertEqual((kind.__module__, kind.__bases__), ("unpassed." + file, (object,)), name)
+                for method, words in methods.items():
+                    parameters = inspect.signature(vars(kind)[method]).parameters
+                    self.assertEqual(list(parameters), ["self"] + words.split(), method)
+                    for parameter in parameters.values():
+                        self.assertEqual(parameter.kind, parameter.POSITIONAL_OR_KEYWORD, method)
+                        self.assertEqual(parameter.default, parameter.empty, method)
+                kind()
+
+    def test_signs_and_attributes(self):
+        kind = importlib.import_module("unpassed.benches").Bench
+        for name in SIGNS + READ:
+            self.assertIn(name, vars(kind))
+        for name in READ:
+            self.assertTrue(hasattr(kind(), name), name)
+
+    def test_the_whole_document(self):
+        files = {*INTERFACE, *CLASSES, "bounds", "errors"}
+        self.assertEqual(len(files), 29)
+        for file in files:
+            importlib.import_module("unpassed." + file)
 
 
 if __name__ == "__main__":

@@ -1,7 +1,7 @@
 """The package held against LANGUAGE.md, as far as a tree of the code can show it.
 
-Where a rule lets more than the package needs, this asks for less: no annotations, no decorators, no imports by
-another name. Whoever needs more than is let here reads the rule, and widens the check by just that.
+Where a rule lets more than the package needs, this asks for less: no annotations, no decorators but that of a
+property, no imports by another name. Whoever needs more than is let here reads the rule, and widens the check by just that.
 """
 
 import ast
@@ -17,11 +17,10 @@ PACKAGE = os.path.join(ROOT, "unpassed")
 LIBRARY = {
     "heapq": {"heappush", "heappop", "heapify", "heapreplace", "heappushpop"},
     "math": {"gcd", "lcm", "isqrt", "comb", "perm", "factorial"},
-    "itertools": {"product", "combinations", "permutations"},
 }
 BUILTINS = set(
     "len range enumerate zip min max sum abs sorted reversed int str bool list tuple dict set isinstance ord repr any "
-    "all divmod type ValueError TypeError KeyError ZeroDivisionError".split())
+    "all divmod type property iter ValueError TypeError KeyError ZeroDivisionError".split())
 METHODS = set(
     "append clear copy count endswith extend find get index insert isalnum isalpha isdigit islower isspace isupper "
     "items join keys ljust lower lstrip partition pop remove replace reverse rfind rjust rpartition rsplit rstrip "
@@ -152,8 +151,13 @@ class StatementsTest(unittest.TestCase):
                 if isinstance(node, ast.Assign):
                     self.assertIsInstance(node.targets[0], ast.Name, name)
                     self.assertEqual(len(node.targets), 1)
+                    above = [one.name for one in tree.body[:place] if isinstance(one, ast.FunctionDef)]
                     for part in ast.walk(node.value):
-                        self.assertIsInstance(part, PLAIN, (name, node.lineno))
+                        told = isinstance(part, ast.Name) and part.id in above
+                        self.assertTrue(told or isinstance(part, PLAIN), (name, node.lineno))
+                    for part in ast.walk(node.value):
+                        if isinstance(part, (ast.List, ast.Dict)) and part is not node.value:
+                            self.fail(f"{name}: line {node.lineno}: a list or a dict in another one")
                 elif isinstance(node, ast.Expr):
                     self.assertEqual(place, 0, name)
                     self.assertIsInstance(node.value, ast.Constant, name)
@@ -161,8 +165,11 @@ class StatementsTest(unittest.TestCase):
                     self.assertIsInstance(node, (ast.ImportFrom, ast.FunctionDef, ast.ClassDef), name)
 
     def test_functions_and_classes(self):
+        methods = [part for _, node in nodes(ast.ClassDef) for part in node.body if isinstance(part, ast.FunctionDef)]
         for name, node in nodes((ast.FunctionDef, ast.ClassDef)):
-            self.assertEqual(node.decorator_list, [], (name, node.name))
+            for word in node.decorator_list:
+                self.assertTrue(isinstance(word, ast.Name) and word.id == "property", (name, node.name))
+                self.assertTrue(node in methods and len(node.args.args) == 1, (name, node.name))
         for name, node in nodes(ast.FunctionDef):
             self.assertIsNone(node.returns, (name, node.name))
             self.assertTrue(ast.get_docstring(node) or node.name.startswith("__"), (name, node.name))
@@ -185,6 +192,38 @@ class StatementsTest(unittest.TestCase):
             for part in ast.walk(node.type):
                 self.assertNotIn(getattr(part, "id", ""), (
                     "Exception", "BaseException", "ValueError", "LookupError", "IndexError", "TypeError"))
+
+
+    def test_stars_in_calls(self):
+        for name, node in nodes(ast.Call):
+            for argument in node.args:
+                if isinstance(argument, ast.Starred):
+                    self.assertIsInstance(argument.value, ast.Name, (name, node.lineno))
+            self.assertNotIn(None, [keyword.arg for keyword in node.keywords], (name, node.lineno))
+
+    def test_methods_of_signs(self):
+        """Those that stand behind a sign are short, and each changes nothing."""
+        for name, node in nodes(ast.FunctionDef):
+            if node.name in DOUBLE - {"__init__"} or node.decorator_list:
+                rows = [part for part in node.body if not isinstance(part, ast.Expr)]
+                self.assertEqual([type(part) for part in rows], [ast.Return], (name, node.name))
+            if node.name == "__iter__":
+                told = node.body[0].value
+                self.assertTrue(is_call(told, {"iter"}) and isinstance(told.args[0], ast.Attribute), name)
+            if node.name == "__eq__":
+                told = node.body[0].value
+                self.assertTrue(isinstance(told, ast.BoolOp) and isinstance(told.op, ast.And), name)
+                self.assertTrue(is_call(told.values[0], {"isinstance"}), name)
+            if node.name == "__len__":
+                self.assertTrue(is_call(node.body[0].value, {"len"}), name)
+
+    def test_types(self):
+        """What kind a value is of is asked of isinstance alone; the name of a class may be told."""
+        for name, tree in TREES.items():
+            above = parents(tree)
+            for node in [node for node in ast.walk(tree) if is_call(node, {"type"})]:
+                place = above[node]
+                self.assertTrue(isinstance(place, ast.Attribute) and place.attr == "__name__", (name, node.lineno))
 
 
 class NamesTest(unittest.TestCase):
@@ -244,6 +283,8 @@ class NamesTest(unittest.TestCase):
         own = {node.name for _, one in nodes(ast.ClassDef) for node in one.body if isinstance(node, ast.FunctionDef)}
         kept = {node.attr for _, node in nodes(ast.Attribute) if isinstance(node.ctx, ast.Store)}
         for name, node in nodes(ast.Attribute):
+            if node.attr == "__name__" and is_call(node.value, {"type"}):
+                continue
             self.assertIn(node.attr, METHODS | own | kept, (name, node.lineno))
             self.assertNotIn(node.attr, NO_NAMES, name)
 

@@ -2,7 +2,7 @@
 
 from unpassed.checks import check_state
 from unpassed.searches import shortest_text
-from unpassed.steps import letter_turns, states_of, step_by
+from unpassed.steps import letter_turns, states_of, step_by, ways_of
 from unpassed.turns import text_turn
 
 
@@ -24,14 +24,7 @@ def parting_text(table, one, other):
     """A shortest tuple of letters that parts two states, None if they are alike ([E3])."""
     check_states(table, one, other)
     turns = letter_turns(table)
-
-    def step(pair, letter):
-        """The pair to which the letter leads, None if it parts the pair."""
-        bits, state = step_by(turns[letter], pair[0])
-        more, beside = step_by(turns[letter], pair[1])
-        return (state, beside) if bits == more else None
-
-    return shortest_text([(one, other)], list(turns), step, lambda pair: pair is None)
+    return shortest_parting(turns, turns, (one, other))
 
 
 def stretches(table):
@@ -55,6 +48,20 @@ def check_states(table, one, other):
     check_state(table, other)
 
 
+def shortest_parting(turns, others, start):
+    """A shortest tuple of letters that costs unlike much from the two states of start, None if there is none.
+
+    turns and others tell for the one and for the other state how the same letters lead it.
+    """
+    def step(pair, letter):
+        """The pair to which the letter leads, None if it parts the pair."""
+        bits, state = step_by(turns[letter], pair[0])
+        more, beside = step_by(others[letter], pair[1])
+        return (state, beside) if bits == more else None
+
+    return shortest_text([start], list(turns), step, lambda pair: pair is None)
+
+
 def shortest_meeting(table, pairs):
     """A shortest tuple of letters that leads both states of one of the pairs to one state, None if there is none."""
     turns = letter_turns(table)
@@ -69,22 +76,18 @@ def shortest_meeting(table, pairs):
 
 def stretch_numbers(table):
     """For each state, ascending, the number of its stretch."""
-    turns = letter_turns(table)
+    ways = ways_of(list(letter_turns(table).values()))
     numbers = (0,) * len(table)
-    finer = finer_numbers(turns, numbers)
+    finer = finer_numbers(ways, numbers)
     while finer != numbers:
         numbers = finer
-        finer = finer_numbers(turns, numbers)
+        finer = finer_numbers(ways, numbers)
     return numbers
 
 
-def finer_numbers(turns, numbers):
+def finer_numbers(ways, numbers):
     """The numbers of states that texts of one letter more do not part, numbers being those for the texts ahead."""
-    many = len(numbers)
-    rows = []
-    for state in range(many, 2 * many):
-        steps = [step_by(turn, state) for turn in turns.values()]
-        rows.append([(bits, numbers[reached - many]) for bits, reached in steps])
+    rows = [[(bits, numbers[reached - len(numbers)]) for bits, reached in steps] for steps in ways]
     # What lies between two states that some texts do not part is not parted from them either ([E7]), so a state has
     # the number of the one ahead of it, or a new one.
     finer = [0]

@@ -19,3 +19,9 @@ def step_by(turn, state):
     many = len(turn)
     bits, place = divmod(turn[state - many], many)
     return bits, many + place
+
+
+def ways_of(turns):
+    """For each state, ascending, the steps by all turns of one ring, in their order."""
+    many = len(turns[0])
+    return [[step_by(turn, state) for turn in turns] for state in range(many, 2 * many)]

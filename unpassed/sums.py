@@ -2,7 +2,7 @@
 
 from unpassed.checks import check_state
 from unpassed.choices import choice_turn, chosen_letters, turns_told
-from unpassed.steps import states_of, step_by
+from unpassed.steps import step_by, ways_of
 from unpassed.turnpowers import power
 
 
@@ -32,8 +32,7 @@ def count_within(table, letters, state, many, bits):
     """How many texts of so many of letters cost at most so many bits, written from state on ([H5])."""
     # Beyond what the dearest text costs there is no further one to count.
     most = min(bits, most_bits(table, letters, state, many))
-    turns = turns_told(table, letters)
-    ways = [[step_by(turn, start) for turn in turns.values()] for start in states_of(table)]
+    ways = ways_of(list(turns_told(table, letters).values()))
     rows = [[1] * (most + 1) for _ in ways]
     for _ in range(many):
         rows = [row_ahead(rows, steps) for steps in ways]
